@@ -56,6 +56,20 @@ func TestP13_1AnyNumber(t *testing.T) {
 	}
 }
 
+// P18.1: all that is left is taken as it is, also where that is nothing.
+func TestP18_1Rest(t *testing.T) {
+	for _, x := range []string{"", "\x00", "rest", strings.Repeat("x", 70000)} {
+		r := octets.Of("\x07" + x)
+		s, ok := octets.Whole(&r, func() string {
+			r.TakeByte()
+			return r.TakeRest()
+		})
+		if s != x || !ok {
+			t.Error(len(x), len(s), ok)
+		}
+	}
+}
+
 // P13.1, P14.1: what has no bytes makes all that is put wrong, whatever comes behind.
 func TestP13_1Wrong(t *testing.T) {
 	big := strings.Repeat("x", 1<<16)

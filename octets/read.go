@@ -83,6 +83,11 @@ func (r *Reader) TakeBool() bool {
 	return b == 1
 }
 
+// TakeRest: all that is left.
+func (r *Reader) TakeRest() string {
+	return r.take(len(r.rest))
+}
+
 // TakeItems: n items, each by take.
 func TakeItems[T any](n int, take func() T) []T {
 	var l []T
